@@ -1,0 +1,1 @@
+"""Canontext: equivalent texts over character tables."""
