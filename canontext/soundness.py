@@ -1,6 +1,7 @@
 """The rules of a table, decomposed forms, and whether a table is sound."""
 
 from canontext.checks import check_table, check_text
+from canontext.errors import Unsound
 
 
 def rules(table):
@@ -75,6 +76,20 @@ def judge(table):
         if order_matters(table, first, second):
             return first, second
     return None
+
+
+def check_sound(table):
+    """Raise InvalidTable for any value that is not a table, and Unsound for a table that is not sound."""
+    pair = judge(table)
+    if pair is not None:
+        raise Unsound(pair[0], pair[1])
+
+
+def check_texts(table, texts):
+    """Raise the errors of each function over sound tables that takes these texts."""
+    check_sound(table)
+    for text in texts:
+        check_text(table, text)
 
 
 def is_unsound_pair(table, value):

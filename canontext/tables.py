@@ -3,6 +3,7 @@
 from canontext.characters import in_order, is_character, is_text
 from canontext.errors import Ambiguous, Cyclic, InvalidClass, InvalidDecomposition, InvalidExclusion
 from canontext.errors import InvalidLine, InvalidText, Mixed, TooMany, UnknownCharacter
+from canontext.integers import is_between
 
 DIGITS = "0123456789"
 
@@ -148,14 +149,8 @@ def check_classes(classes):
     if not 1 <= len(classes) <= Table.MAX_CHARACTERS:
         raise TooMany(len(classes))
     for character in sorted(classes):
-        if not is_class(classes[character]):
+        if not is_between(classes[character], 0, Table.MAX_CLASS):
             raise InvalidClass(classes[character])
-
-
-def is_class(value):
-    """Return whether any value is an integer from 0 to 9."""
-    # True and False are of the kind int as well.
-    return isinstance(value, int) and not isinstance(value, bool) and 0 <= value <= Table.MAX_CLASS
 
 
 def check_decompositions(decompositions, classes):

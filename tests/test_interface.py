@@ -1,8 +1,9 @@
 import inspect
 import unittest
 
-from canontext import characters, soundness, tables
+from canontext import characters, composing, forms, rests, soundness, tables, variants
 from canontext.tables import Table
+from canontext.variants import Variants
 
 FUNCTIONS = {
     characters: {"is_character": "value", "is_text": "value characters", "in_order": "characters"},
@@ -13,18 +14,47 @@ FUNCTIONS = {
         "is_unsound_pair": "table value",
         "decomposed": "table text",
     },
+    forms: {
+        "blocks": "table text",
+        "are_equivalent": "table one other",
+        "first_difference": "table one other",
+        "path_between": "table one other",
+        "is_path": "table one other value",
+    },
+    composing: {"composed": "table text", "is_composed": "table text", "formed": "table"},
+    rests: {
+        "rest_after": "table text beginning",
+        "beginnings": "table text",
+        "rest_count": "table text",
+        "rests": "table text",
+    },
 }
 
 METHODS = {
-    "class_of": "self character",
-    "decomposition": "self character",
-    "atoms": "self character",
-    "composite_of": "self first second",
-    "__contains__": "self value",
-    "__len__": "self",
-    "__str__": "self",
-    "__eq__": "self other",
+    Table: {
+        "class_of": "self character",
+        "decomposition": "self character",
+        "atoms": "self character",
+        "composite_of": "self first second",
+        "__contains__": "self value",
+        "__len__": "self",
+        "__str__": "self",
+        "__eq__": "self other",
+    },
+    Variants: {
+        "__getitem__": "self index",
+        "__contains__": "self value",
+        "__eq__": "self other",
+        "index_of": "self text",
+        "each": "self start",
+        "lengths": "self",
+        "shortest": "self",
+        "distances": "self",
+        "is_distances": "self value",
+    },
 }
+
+PROPERTIES = {Table: ["characters", "bases", "marks", "composites", "excluded"], Variants: ["variant_count"]}
 
 
 class InterfaceTest(unittest.TestCase):
@@ -35,14 +65,21 @@ class InterfaceTest(unittest.TestCase):
                 self.assertEqual(function.__module__, module.__name__)
                 self.assertEqual(list(inspect.signature(function).parameters), parameters.split())
 
-    def test_methods_stand_in_the_class(self):
+    def test_classes_stand_in_their_files(self):
         self.assertEqual(Table.__module__, tables.__name__)
-        for name, parameters in METHODS.items():
-            self.assertEqual(list(inspect.signature(vars(Table)[name]).parameters), parameters.split())
-        for name in ("characters", "bases", "marks", "composites", "excluded"):
-            self.assertIsInstance(vars(Table)[name], property)
+        self.assertEqual(Variants.__module__, variants.__name__)
+
+    def test_methods_stand_in_the_class(self):
+        for owner, rows in METHODS.items():
+            for name, parameters in rows.items():
+                self.assertEqual(list(inspect.signature(vars(owner)[name]).parameters), parameters.split())
+            for name in PROPERTIES[owner]:
+                self.assertIsInstance(vars(owner)[name], property)
         self.assertIsInstance(vars(Table)["from_text"], classmethod)
         self.assertEqual(list(inspect.signature(Table.from_text).parameters), ["text"])
 
-    def test_parameters_of_a_table(self):
+    def test_parameters_with_defaults_and_by_name_only(self):
         self.assertEqual(str(inspect.signature(Table)), "(classes, *, decompositions=None, excluded='')")
+        self.assertEqual(str(inspect.signature(Variants)), "(table, text)")
+        self.assertEqual(str(inspect.signature(Variants.each)), "(self, *, start=0)")
+        self.assertTrue(inspect.isgeneratorfunction(Variants.each))

@@ -3,18 +3,7 @@ import unittest
 from canontext import errors
 from canontext.soundness import decomposed, is_step, is_unsound_pair, judge, rules
 from canontext.tables import Table
-from tests.values import any_values, example, small_tables, texts_up_to, unsound
-
-
-def steps_from(table, text):
-    """All texts to which one step leads, by trying each side of each rule at each position."""
-    sides = [pair for rule in rules(table) for pair in (rule, rule[::-1])]
-    return {
-        text[:at] + new + text[at + len(old):]
-        for old, new in sides
-        for at in range(len(text))
-        if text[at:at + len(old)] == old
-    }
+from tests.values import any_values, example, small_tables, steps_from, texts_up_to, unsound
 
 
 def bubbled(table, text):
