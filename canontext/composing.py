@@ -27,7 +27,7 @@ def composed_form(table, text):
     base = None
     for atom in decomposed_form(table, text):
         composite = None
-        if base is not None and not is_blocked(table, result[base + 1:], atom):
+        if base is not None and not is_blocked(table, result, base, atom):
             composite = table.composite_of(result[base], atom)
         if composite is not None:
             result[base] = composite
@@ -38,6 +38,6 @@ def composed_form(table, text):
     return "".join(result)
 
 
-def is_blocked(table, behind, atom):
-    """Return whether what stands behind the last base keeps an atom from being combined with it."""
-    return len(behind) > 0 and table.class_of(behind[-1]) >= table.class_of(atom)
+def is_blocked(table, result, base, atom):
+    """Return whether what stands behind the last base, at an index, keeps an atom from being combined with it."""
+    return base < len(result) - 1 and table.class_of(result[-1]) >= table.class_of(atom)

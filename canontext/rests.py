@@ -2,7 +2,7 @@
 
 from canontext.errors import TooMany
 from canontext.forms import split_form
-from canontext.soundness import check_texts, decomposed_form
+from canontext.soundness import check_texts, decomposed_form, table_atoms
 
 MAX_RESTS = 2000
 
@@ -46,14 +46,18 @@ def block_rest_count(table, block):
     return ways
 
 
-def form_rests(table, form):
-    """Return the list of all rests of a decomposed form in their order; raises TooMany."""
+def check_rest_count(table, form):
+    """Raise TooMany for a decomposed form that has more than 2,000 rests."""
     total = form_rest_count(table, form)
     if total > MAX_RESTS:
         raise TooMany(total)
+
+
+def form_rests(table, form):
+    """Return the list of all rests of a decomposed form in their order; raises TooMany."""
+    check_rest_count(table, form)
     passed = passed_marks(table)
-    atoms = [character for character in table.characters if table.decomposition(character) is None]
-    decompositions = full_decompositions(table, atoms)
+    decompositions = full_decompositions(table, table_atoms(table))
     found = []
     # Each level has all rests of one length: those of the last level without one more atom.
     level = [form]

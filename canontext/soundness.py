@@ -108,6 +108,11 @@ def order_matters(table, first, second):
     return decomposed_form(table, first + second) != decomposed_form(table, second + first)
 
 
+def table_atoms(table):
+    """Return the string of the atoms of a table, in ascending order."""
+    return "".join([character for character in table.characters if table.decomposition(character) is None])
+
+
 def decomposed(table, text):
     """Return the decomposed form of a text; the table need not be sound."""
     check_table(table)

@@ -1,7 +1,11 @@
 import inspect
 import unittest
 
-from canontext import characters, composing, forms, rests, soundness, tables, variants
+from canontext import buffers, characters, composing, forms, patterns, rests, search, soundness, streams, tables
+from canontext import variants
+from canontext.buffers import Buffer
+from canontext.patterns import Pattern
+from canontext.streams import Stream
 from canontext.tables import Table
 from canontext.variants import Variants
 
@@ -28,7 +32,19 @@ FUNCTIONS = {
         "rest_count": "table text",
         "rests": "table text",
     },
+    streams: {"streamed": "table pieces composed"},
+    search: {
+        "occurrences": "table text part",
+        "occurrence_count": "table text part",
+        "occurs": "table text part",
+        "absence": "table text part",
+        "is_absence": "table text part value",
+        "replaced": "table text part other limit",
+    },
+    patterns: {"closure_gap": "pattern", "is_gap": "pattern value"},
 }
+
+CLASSES = {Table: tables, Variants: variants, Stream: streams, Buffer: buffers, Pattern: patterns}
 
 METHODS = {
     Table: {
@@ -52,9 +68,35 @@ METHODS = {
         "distances": "self",
         "is_distances": "self value",
     },
+    Stream: {"__call__": "self piece", "changer": "self", "close": "self"},
+    Buffer: {
+        "edit": "self start stop text",
+        "put": "self index text",
+        "cut": "self start stop",
+        "undo": "self",
+        "redo": "self",
+        "__len__": "self",
+        "__getitem__": "self index",
+        "__contains__": "self value",
+        "__eq__": "self other",
+    },
+    Pattern: {
+        "__call__": "self text",
+        "state_after": "self text start",
+        "accepting": "self",
+        "__len__": "self",
+        "__eq__": "self other",
+        "__str__": "self",
+    },
 }
 
-PROPERTIES = {Table: ["characters", "bases", "marks", "composites", "excluded"], Variants: ["variant_count"]}
+PROPERTIES = {
+    Table: ["characters", "bases", "marks", "composites", "excluded"],
+    Variants: ["variant_count"],
+    Stream: ["given", "held", "pieces", "closed"],
+    Buffer: ["text", "form", "last_change"],
+    Pattern: ["table", "text"],
+}
 
 
 class InterfaceTest(unittest.TestCase):
@@ -66,8 +108,8 @@ class InterfaceTest(unittest.TestCase):
                 self.assertEqual(list(inspect.signature(function).parameters), parameters.split())
 
     def test_classes_stand_in_their_files(self):
-        self.assertEqual(Table.__module__, tables.__name__)
-        self.assertEqual(Variants.__module__, variants.__name__)
+        for owner, module in CLASSES.items():
+            self.assertEqual(owner.__module__, module.__name__)
 
     def test_methods_stand_in_the_class(self):
         for owner, rows in METHODS.items():
@@ -83,3 +125,9 @@ class InterfaceTest(unittest.TestCase):
         self.assertEqual(str(inspect.signature(Variants)), "(table, text)")
         self.assertEqual(str(inspect.signature(Variants.each)), "(self, *, start=0)")
         self.assertTrue(inspect.isgeneratorfunction(Variants.each))
+        self.assertEqual(str(inspect.signature(Stream)), "(table, *, composed=True)")
+        self.assertEqual(str(inspect.signature(streams.streamed)), "(table, pieces, *, composed=True)")
+        self.assertEqual(str(inspect.signature(Buffer)), "(table, text='', *, composed=True)")
+        self.assertEqual(str(inspect.signature(search.replaced)), "(table, text, part, other, *, limit=None)")
+        self.assertEqual(str(inspect.signature(Pattern)), "(table, text)")
+        self.assertEqual(str(inspect.signature(Pattern.state_after)), "(self, text, *, start=0)")

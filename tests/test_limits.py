@@ -1,7 +1,5 @@
 import itertools
-import signal
 import string
-import unittest
 
 from canontext.composing import composed, formed, is_composed
 from canontext.errors import TooMany
@@ -10,53 +8,11 @@ from canontext.rests import beginnings, rest_after, rest_count, rests
 from canontext.soundness import decomposed, judge
 from canontext.tables import Table
 from canontext.variants import Variants
-
-SECONDS = 30
-
-
-def doubled_marks():
-    """Thirty characters: two atoms, and marks of up to eight atoms, most of them of eight."""
-    lines = ["u 1", "v 2", "A 1 = uu", "B 1 = AA", "C 1 = BB"]
-    names = [letter for letter in string.ascii_letters if letter not in "uvABC"][:25]
-    lines.extend([f"{name} 1 = {other}" for name, other in zip(names, ["C", *names])])
-    return Table.from_text("\n".join(lines))
+from tests.limits import TimedCase, bases_and_marks, doubled_marks, mixed_marks
 
 
-def mixed_marks():
-    """Thirty characters: three atoms, and marks of up to eight atoms, no two of them alike."""
-    lines = ["a 0", "u 1", "v 2"]
-    names = {(1, 0): "u", (0, 1): "v"}
-    free = [letter for letter in string.ascii_letters if letter not in "auv"]
-    pairs = [(ones, twos) for total in range(2, 9) for twos in range(4) for ones in [total - twos] if ones >= 0]
-    for ones, twos in pairs:
-        part, atom = ((ones - 1, twos), "u") if ones else ((0, twos - 1), "v")
-        names[ones, twos] = free.pop()
-        lines.append(f"{names[ones, twos]} 1 = {names[part]}{atom}")
-    return Table.from_text("\n".join(lines))
-
-
-def bases_and_marks():
-    """Thirty characters: bases of up to eight atoms, marks of every class."""
-    lines = ["a 0", "b 0", "A 0 = aa", "B 0 = AA", "C 0 = BB", "D 0 = C", "E 0 = D"]
-    lines.extend([f"{rank} {rank}" for rank in range(1, 10)])
-    parts = ["a", *"FGHIJKL"]
-    lines.extend([f"{name} 0 = {part}{rank}" for name, part, rank in zip("FGHIJKL", parts, "1234567")])
-    lines.extend([f"{name} 0 = {part}{rank}" for name, part, rank in zip("MNOPQRS", parts, "8989898")])
-    return Table.from_text("\n".join(lines))
-
-
-class LimitsTest(unittest.TestCase):
+class LimitsTest(TimedCase):
     """No function takes long at the limits of point 7."""
-
-    def setUp(self):
-        signal.signal(signal.SIGALRM, self.stop)
-        signal.alarm(SECONDS)
-
-    def tearDown(self):
-        signal.alarm(0)
-
-    def stop(self, *_):
-        self.fail(f"took more than {SECONDS} seconds")
 
     def check_texts(self, table, text):
         """Call each function with a text and with its opposite order."""

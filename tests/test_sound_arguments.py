@@ -1,6 +1,7 @@
 import unittest
 
-from canontext import composing, errors, forms, rests
+from canontext import composing, errors, forms, rests, search
+from canontext.buffers import Buffer
 from canontext.soundness import decomposed, judge
 from canontext.tables import Table
 from canontext.variants import Variants
@@ -21,6 +22,12 @@ CALLS = [
     (rests.rest_count, ["text"], {}),
     (rests.rests, ["text"], {}),
     (Variants, ["text"], {}),
+    (Buffer, ["text"], {}),
+    (search.occurrences, ["text", "part"], {}),
+    (search.occurrence_count, ["text", "part"], {}),
+    (search.occurs, ["text", "part"], {}),
+    (search.absence, ["text", "part"], {}),
+    (search.is_absence, ["text", "part"], {"value": [(0, "short")]}),
 ]
 
 
