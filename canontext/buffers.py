@@ -74,6 +74,19 @@ class Buffer:
         self._text = text
         self._form = form
 
+    def duplicate(self):
+        """Return another buffer in the same state."""
+        other = Buffer(self._table, self._text, composed=self._composed)
+        other._last_change = self._last_change
+        other._before = list(self._before)
+        other._behind = list(self._behind)
+        return other
+
+    @property
+    def table(self):
+        """The table."""
+        return self._table
+
     @property
     def text(self):
         """The text."""

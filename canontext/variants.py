@@ -18,7 +18,7 @@ class Variants:
         check_texts(table, [text])
         self._table = table
         self._rests = form_rests(table, decomposed_form(table, text))
-        self._steps = numbered_steps(table, self._rests)
+        self._steps = numbered_steps(table, self._rests, table.characters)
         self._totals = variant_totals(self._steps)
 
     @property
@@ -134,9 +134,9 @@ class Variants:
         ])
 
 
-def numbered_steps(table, found):
-    """Return a list with a dict for each rest: where the characters lead with which its variants begin."""
-    decompositions = full_decompositions(table, table.characters)
+def numbered_steps(table, found, characters):
+    """Return a list with a dict for each rest: where those characters lead with which its variants begin."""
+    decompositions = full_decompositions(table, characters)
     passed = passed_marks(table)
     numbers = {rest: number for number, rest in enumerate(found)}
     steps = []

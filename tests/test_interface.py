@@ -1,9 +1,11 @@
 import inspect
 import unittest
 
-from canontext import buffers, characters, composing, forms, patterns, rests, search, soundness, streams, tables
-from canontext import variants
+from canontext import buffers, characters, composing, console, forms, mappings, matching, patterns, rests, revisions
+from canontext import search, soundness, streams, tables, variants
 from canontext.buffers import Buffer
+from canontext.console import Console
+from canontext.mappings import Mapping
 from canontext.patterns import Pattern
 from canontext.streams import Stream
 from canontext.tables import Table
@@ -42,9 +44,34 @@ FUNCTIONS = {
         "replaced": "table text part other limit",
     },
     patterns: {"closure_gap": "pattern", "is_gap": "pattern value"},
+    matching: {
+        "accepted_count": "pattern text",
+        "some_variant": "pattern text",
+        "accepted_at": "pattern text index",
+        "each_accepted": "pattern text start",
+        "refutation": "pattern text",
+        "is_refutation": "pattern text value",
+        "matches": "pattern text",
+    },
+    mappings: {"find_break": "mapping", "is_break": "mapping value"},
+    revisions: {
+        "extends": "new old",
+        "changed_text": "new old",
+        "is_changed_text": "new old value",
+        "spelled": "table text characters",
+        "unspelled": "table characters",
+    },
 }
 
-CLASSES = {Table: tables, Variants: variants, Stream: streams, Buffer: buffers, Pattern: patterns}
+CLASSES = {
+    Table: tables,
+    Variants: variants,
+    Stream: streams,
+    Buffer: buffers,
+    Pattern: patterns,
+    Mapping: mappings,
+    Console: console,
+}
 
 METHODS = {
     Table: {
@@ -88,6 +115,8 @@ METHODS = {
         "__eq__": "self other",
         "__str__": "self",
     },
+    Mapping: {"images": "self", "__call__": "self text", "then": "self other", "__eq__": "self other"},
+    Console: {"run": "self line", "run_all": "self lines", "clone": "self"},
 }
 
 PROPERTIES = {
@@ -96,6 +125,8 @@ PROPERTIES = {
     Stream: ["given", "held", "pieces", "closed"],
     Buffer: ["text", "form", "last_change"],
     Pattern: ["table", "text"],
+    Mapping: ["source", "target"],
+    Console: ["table", "text", "form"],
 }
 
 
@@ -131,3 +162,8 @@ class InterfaceTest(unittest.TestCase):
         self.assertEqual(str(inspect.signature(search.replaced)), "(table, text, part, other, *, limit=None)")
         self.assertEqual(str(inspect.signature(Pattern)), "(table, text)")
         self.assertEqual(str(inspect.signature(Pattern.state_after)), "(self, text, *, start=0)")
+        self.assertEqual(str(inspect.signature(matching.each_accepted)), "(pattern, text, *, start=0)")
+        self.assertTrue(inspect.isgeneratorfunction(matching.each_accepted))
+        self.assertEqual(str(inspect.signature(Mapping)), "(source, target, images)")
+        self.assertEqual(str(inspect.signature(Console)), "()")
+        self.assertEqual((Table.MAX_CHARACTERS, Table.MAX_CLASS, Table.MAX_ATOMS, rests.MAX_RESTS), (30, 9, 8, 2000))

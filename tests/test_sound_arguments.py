@@ -2,6 +2,7 @@ import unittest
 
 from canontext import composing, errors, forms, rests, search
 from canontext.buffers import Buffer
+from canontext.revisions import spelled
 from canontext.soundness import decomposed, judge
 from canontext.tables import Table
 from canontext.variants import Variants
@@ -28,6 +29,7 @@ CALLS = [
     (search.occurs, ["text", "part"], {}),
     (search.absence, ["text", "part"], {}),
     (search.is_absence, ["text", "part"], {"value": [(0, "short")]}),
+    (spelled, ["text"], {"characters": ""}),
 ]
 
 
