@@ -13,7 +13,7 @@ MAX_OCCURRENCES = 2000
 def occurrences(table, text, part):
     """Return the list of all occurrences of a part: tuples of what stands in front of it and behind it."""
     runs, wanted = checked_runs(table, text, part)
-    total = sum([ways_at(runs, wanted, start) for start in range(len(runs))])
+    total = all_ways(runs, wanted)
     if total > MAX_OCCURRENCES:
         raise TooMany(total)
     found = []
@@ -26,7 +26,7 @@ def occurrences(table, text, part):
 def occurrence_count(table, text, part):
     """Return the number of occurrences of a part."""
     runs, wanted = checked_runs(table, text, part)
-    return sum([ways_at(runs, wanted, start) for start in range(len(runs))])
+    return all_ways(runs, wanted)
 
 
 def occurs(table, text, part):
@@ -85,6 +85,11 @@ def form_occurs(table, form, part):
     runs = runs_of(table, form)
     wanted = runs_of(table, part)
     return None in [why_not(runs, wanted, start) for start in range(len(runs))]
+
+
+def all_ways(runs, wanted):
+    """Return the number of all occurrences of a part."""
+    return sum([ways_at(runs, wanted, start) for start in range(len(runs))])
 
 
 def ways_at(runs, wanted, start):

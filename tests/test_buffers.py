@@ -1,5 +1,4 @@
 import random
-import unittest
 
 from canontext import errors
 from canontext.buffers import Buffer
@@ -7,9 +6,9 @@ from canontext.composing import composed
 from canontext.rests import rest_count, rests
 from canontext.soundness import decomposed
 from canontext.tables import Table
-from tests.values import any_values, equivalent_texts, example, sound_tables, texts_up_to, unsound
+from tests.cases import ErrorCase
+from tests.values import any_values, equivalent_texts, example, no_integers, sound_tables, texts_up_to, unsound
 
-NO_INTEGERS = [value for value in any_values() if type(value) is not int] + ["0", "a", [0], (0,), {0: 0}]
 NO_CHOICES = [value for value in any_values() if value is not True and value is not False] + [1, 0, "a"]
 
 
@@ -31,16 +30,7 @@ def change_of(before, after):
     return starts[-1], old[:len(old) - ends[-1]], new[:len(new) - ends[-1]]
 
 
-class BufferCase(unittest.TestCase):
-    def expect(self, error, told, function, *values, **named):
-        with self.assertRaises(error) as caught:
-            function(*values, **named)
-        self.assertIs(type(caught.exception), error)
-        attributes = list(vars(caught.exception).values())
-        self.assertEqual(len(attributes), len(told))
-        for attribute, value in zip(attributes, told):
-            self.assertIs(attribute, value)
-
+class BufferCase(ErrorCase):
     def expect_range(self, start, stop, function, *values):
         """Check that a call raises InvalidRange with a tuple of these very values."""
         with self.assertRaises(errors.InvalidRange) as caught:
@@ -122,7 +112,7 @@ class EditTest(BufferCase):
         kept = state_of(buffer)
         ranges = [(-1, 0), (0, -1), (-1, -1), (2, 1), (4, 4), (0, 4), (3, 4), (3, 2), (10 ** 29, 10 ** 29),
                   (-3, -1), (False, 1), (0, True), (True, True), (True, False)]
-        ranges.extend([(value, 1) for value in NO_INTEGERS] + [(0, value) for value in NO_INTEGERS])
+        ranges.extend([(value, 1) for value in no_integers()] + [(0, value) for value in no_integers()])
         for start, stop in ranges:
             self.expect_range(start, stop, buffer.edit, start, stop, "a")
             self.expect_range(start, stop, buffer.edit, start, stop, "?")
@@ -130,7 +120,7 @@ class EditTest(BufferCase):
             self.expect_range(start, stop, buffer.edit, start, stop, "a" * 60)
             self.expect_range(start, stop, buffer.cut, start, stop)
             self.assertEqual(state_of(buffer), kept)
-        for index in NO_INTEGERS + [-1, 4, True, False, 10 ** 29]:
+        for index in no_integers() + [-1, 4, True, False, 10 ** 29]:
             for text in ("a", "", "?", None, "a" * 61):
                 self.expect_range(index, index, buffer.put, index, text)
         self.assertEqual(state_of(buffer), kept)
@@ -290,7 +280,7 @@ class FormTest(BufferCase):
     def test_index(self):
         buffer = Buffer(example_of_buffers(), "aaam")
         self.assertEqual([buffer[0], buffer[1], buffer[2], len(buffer)], ["P", "a", "m", 3])
-        for value in NO_INTEGERS + [-1, 3, 4, 10 ** 29, -3, True, False, buffer, "P"]:
+        for value in no_integers() + [-1, 3, 4, 10 ** 29, -3, True, False, buffer, "P"]:
             with self.assertRaises(errors.UnknownIndex) as caught:
                 buffer[value]
             self.assertIs(caught.exception.value, value)

@@ -246,7 +246,8 @@ class CallsTest(unittest.TestCase):
         self.assertGreater(emptied, 10)
 
     def test_classes_that_compare_are_equal_to_no_other_object(self):
-        objects = [make() for make in (new_table, new_mapping, new_pattern, new_buffer)] + [Variants(new_table(), "auv")]
+        objects = [make() for make in (new_table, new_mapping, new_pattern, new_buffer)]
+        objects.append(Variants(new_table(), "auv"))
         for one, other in itertools.permutations(objects, 2):
             self.assertIs(one == other, False)
         for one in objects:

@@ -1,13 +1,13 @@
 import copy
 import itertools
 import random
-import unittest
 
 from canontext import errors
 from canontext.forms import are_equivalent
 from canontext.mappings import Mapping, find_break, is_break
 from canontext.soundness import decomposed, judge, rules
 from canontext.tables import Table
+from tests.cases import ErrorCase
 from tests.values import any_values, example, small_tables, sound_tables, steps_from, texts_up_to, unsound
 
 
@@ -41,17 +41,7 @@ def cases(count):
         yield random_mapping(chance, chance.choice(sources), chance.choice(sound_tables()))
 
 
-class MappingCase(unittest.TestCase):
-    def expect(self, error, told, function, *values, **named):
-        with self.assertRaises(error) as caught:
-            function(*values, **named)
-        self.assertIs(type(caught.exception), error)
-        self.assertEqual(len(vars(caught.exception)), len(told))
-        for attribute, value in zip(vars(caught.exception).values(), told):
-            self.assertIs(attribute, value)
-
-
-class MappingTest(MappingCase):
+class MappingTest(ErrorCase):
     def test_example_of_point_126(self):
         mapping = swapping()
         old = mapping.source
@@ -109,7 +99,8 @@ class MappingTest(MappingCase):
         more = Table({"a": 0, "u": 1, "v": 2, "A": 0, "b": 0}, decompositions={"A": "au"})
         other = Table({"a": 0, "u": 1, "v": 2, "A": 0})
         others = [swapping("au"), swapping("A"), Mapping(mapping.source, more, images),
-                  Mapping(mapping.source, other, images), Mapping(other, mapping.source, images), images, mapping.source]
+                  Mapping(mapping.source, other, images), Mapping(other, mapping.source, images), images,
+                  mapping.source]
         for value in others + any_values():
             self.assertIs(mapping == value, False)
             self.assertIs(mapping != value, True)
@@ -126,7 +117,8 @@ class MappingTest(MappingCase):
         good = swapping().images()
         wrong = [{}, {"a": "a"}, {**good, "b": "a"}, {**good, "": ""}, {**good, None: "a"}, {**good, 0: "a"},
                  {character: good[character] for character in "Aau"}, {**good, "A": "auauv"}, {**good, "A": "b"},
-                 {**good, "A": "a b"}, {**good, "A": None}, {**good, "A": ["a"]}, {**good, "A": 0}, {**good, "A": ("a",)},
+                 {**good, "A": "a b"}, {**good, "A": None}, {**good, "A": ["a"]}, {**good, "A": 0},
+                 {**good, "A": ("a",)},
                  {**good, "v": "?"}, {("a" if key == "u" else key): "a" for key in good}, list(good.items()),
                  {(key,): good[key] for key in good}, list(good), table, swapping(), {**good, "A": table},
                  {("b" if key == "u" else key): good[key] for key in good}, "Aauv"]
@@ -141,7 +133,7 @@ class MappingTest(MappingCase):
         self.expect(errors.InvalidImages, [good], Mapping, Table({"a": 0}), table, good)
 
 
-class ThenTest(MappingCase):
+class ThenTest(ErrorCase):
     def test_one_behind_the_other(self):
         chance = random.Random(32)
         for first in cases(60):
@@ -184,7 +176,7 @@ class ThenTest(MappingCase):
         self.assertEqual(mapping.then(swapping())("A"), "au")
 
 
-class BreakTest(MappingCase):
+class BreakTest(ErrorCase):
     def test_the_first_rule(self):
         kept = 0
         for mapping in cases(300):

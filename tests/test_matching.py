@@ -11,10 +11,8 @@ from canontext.patterns import Pattern, closure_gap
 from canontext.rests import beginnings, rest_after, rests
 from canontext.soundness import decomposed
 from canontext.tables import Table
-from tests.values import any_values, equivalent_texts, sound_tables, unsound
+from tests.values import any_values, equivalent_texts, no_integers, sound_tables, unsound
 from tests.ways import accepts, random_tree, written
-
-NO_INTEGERS = [value for value in any_values() if type(value) is not int] + ["0", "a", [0], (0,), {0: 0}]
 
 
 def example_of_matching():
@@ -139,7 +137,7 @@ class EachAcceptedTest(unittest.TestCase):
             generator = each_accepted(*arguments)
             with self.assertRaises(error):
                 next(generator)
-        for value in NO_INTEGERS + [-1, -10 ** 29, True, False]:
+        for value in no_integers() + [-1, -10 ** 29, True, False]:
             generator = each_accepted(pattern, "auv", start=value)
             with self.assertRaises(errors.InvalidInteger) as caught:
                 next(generator)
@@ -205,7 +203,8 @@ class RefutationTest(unittest.TestCase):
         self.assertEqual(pattern.state_after("a"), 1)
         for order in itertools.permutations(found):
             self.assertIs(is_refutation(pattern, "A", list(order)), True)
-        more = [tuple(found), found + found[:1], found[1:], found[:2], [("au", 0), ("", 1)], [list(pair) for pair in found],
+        more = [tuple(found), found + found[:1], found[1:], found[:2], [("au", 0), ("", 1)],
+                [list(pair) for pair in found],
                 [("au", False), *found[1:]], [("au", 0), ("u", True), ("", 1)], found + [("", True)], found + [("", 2)],
                 found + [("", 3)], found + [("", -1)], found + [("a", 1)], found + [("ua", 1)], found + [("A", 1)],
                 found + [("", 1, 1)], found + [("",)], found + [()], found + [("", "1")], found + [("", None)],
@@ -279,7 +278,7 @@ class WrongArgumentsTest(unittest.TestCase):
     def test_indices(self):
         pattern = Pattern(example_of_matching(), "A.|avu")
         self.assertEqual([accepted_at(pattern, "auv", 0), accepted_at(pattern, "auv", 1)], ["Av", "avu"])
-        for value in NO_INTEGERS + [-1, 2, 10 ** 29, -10 ** 29, True, False, pattern]:
+        for value in no_integers() + [-1, 2, 10 ** 29, -10 ** 29, True, False, pattern]:
             with self.assertRaises(errors.UnknownIndex) as caught:
                 accepted_at(pattern, "auv", value)
             self.assertIs(caught.exception.value, value)

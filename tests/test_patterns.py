@@ -299,7 +299,8 @@ class StatesTest(unittest.TestCase):
         table = example_of_patterns()
         pattern = Pattern(table, "a*")
         more = Table({"a": 0, "x": 1, "y": 2, "A": 0, "b": 0}, decompositions={"A": "ax"})
-        others = [Pattern(table, "a+"), Pattern(table, "a?"), Pattern(more, "a*"), Pattern(table, ""), Pattern(table, ".*"),
+        others = [Pattern(table, "a+"), Pattern(table, "a?"), Pattern(more, "a*"), Pattern(table, ""),
+                  Pattern(table, ".*"),
                   Pattern(Table({"a": 0, "x": 1, "y": 2, "A": 0}), "a*"), table, "a*"]
         for other in others + any_values():
             self.assertIs(pattern == other, False)
@@ -367,7 +368,8 @@ class ClosureTest(unittest.TestCase):
     def test_values_that_are_no_gaps(self):
         pattern = Pattern(example_of_patterns(), "a[xy]*|A")
         wrong = [("", "A", "ax", ""), ["", "A", "ax", "x"], ("", "A", "ax"), ("", "A", "ax", "x", ""), (),
-                 ("", "A", "a", ""), ("", "A", "b", ""), ("", "A", None, ""), (None, "A", "ax", "x"), ("", "A", "ax", 0),
+                 ("", "A", "a", ""), ("", "A", "b", ""), ("", "A", None, ""), (None, "A", "ax", "x"),
+                 ("", "A", "ax", 0),
                  ("a", "xy", "yx", ""), ("", "A", ["ax"], "x"), ("", ("A",), "ax", "x"), ("b", "A", "ax", "x"),
                  ("", "A", "ax", "?"), "Aax", {"": 1}, pattern, pattern.table, ("", "xy", "xy", "")]
         for value in wrong + any_values():

@@ -1,6 +1,5 @@
 import itertools
 import random
-import unittest
 
 from canontext import errors
 from canontext.composing import composed, formed
@@ -9,6 +8,7 @@ from canontext.revisions import changed_text, extends, is_changed_text, spelled,
 from canontext.soundness import judge
 from canontext.tables import Table
 from canontext.variants import Variants
+from tests.cases import ErrorCase
 from tests.values import any_values, equivalent_texts, example, sound_tables, texts_up_to, unsound
 
 
@@ -46,17 +46,7 @@ def revisions():
     return pairs
 
 
-class RevisionCase(unittest.TestCase):
-    def expect(self, error, told, function, *values, **named):
-        with self.assertRaises(error) as caught:
-            function(*values, **named)
-        self.assertIs(type(caught.exception), error)
-        self.assertEqual(len(vars(caught.exception)), len(told))
-        for attribute, value in zip(vars(caught.exception).values(), told):
-            self.assertIs(attribute, value)
-
-
-class ExtendsTest(RevisionCase):
+class ExtendsTest(ErrorCase):
     def test_example_of_point_126(self):
         old, new = old_example(), new_example()
         self.assertEqual([extends(new, old), is_changed_text(new, old, "av"), spelled(old, "auv", "Av"),
@@ -101,7 +91,7 @@ class ExtendsTest(RevisionCase):
             self.expect(errors.InvalidTable, [value], extends, old=value, new=example())
 
 
-class ChangedTextTest(RevisionCase):
+class ChangedTextTest(ErrorCase):
     def test_all_short_texts(self):
         changes = keeps = 0
         for new, old in revisions():
@@ -165,7 +155,7 @@ class ChangedTextTest(RevisionCase):
             self.assertIs(error.old, new)
 
 
-class SpelledTest(RevisionCase):
+class SpelledTest(ErrorCase):
     def test_the_first_of_all_equivalent_texts(self):
         chance = random.Random(41)
         none = 0

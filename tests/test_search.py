@@ -9,7 +9,8 @@ from canontext.forms import blocks
 from canontext.search import absence, is_absence, occurrence_count, occurrences, occurs, replaced
 from canontext.soundness import decomposed
 from canontext.tables import Table
-from tests.values import any_values, equivalent_texts, example, sound_tables, texts_up_to, unsound
+from tests.cases import ErrorCase
+from tests.values import any_values, equivalent_texts, sound_tables, texts_up_to, unsound
 
 
 def example_of_search():
@@ -232,11 +233,22 @@ class AbsenceTest(unittest.TestCase):
         self.assertEqual(absence(table, "", "b"), [(0, "short")])
         self.assertIsNone(absence(table, "", ""))
 
+    def test_each_class(self):
+        table = all_marks()
+        for rank in range(1, 10):
+            mark = str(rank)
+            self.assertEqual(absence(table, "123456789", mark * 2), [(0, "run", 0, rank)])
+            self.assertEqual(absence(table, "a" + mark, "a" + mark * 2), [(0, "run", 1, rank), (1, "short")])
+            self.assertIs(occurs(table, "a123456789", "a" + mark), True)
+            self.assertIs(is_absence(table, "123456789", mark * 2, [(0, "run", 0, rank)]), True)
+            self.assertIs(is_absence(table, "123456789", mark * 2, [(0, "run", 0, 10 - rank)]), rank == 5)
+
     def test_values_that_are_none(self):
         table = Table({"a": 0, "b": 0, "u": 1, "x": 1, "v": 2})
         found = absence(table, "uxavb", "xau")
         self.assertEqual(found, [(0, "run", 1, 1), (1, "base", 1), (2, "short")])
-        wrong = [tuple(found), found[:2], found + [(3, "short")], found + [(2, "short")], [], [list(one) for one in found],
+        wrong = [tuple(found), found[:2], found + [(3, "short")], found + [(2, "short")], [],
+                 [list(one) for one in found],
                  [found[0], found[0], found[2]], [(0, "run", True, 1), *found[1:]], [(0, "run", 1, True), *found[1:]],
                  [(False, "run", 1, 1), *found[1:]], [(0, "run", 1), *found[1:]], [(0, "run", 1, 1, 1), *found[1:]],
                  [(0, "run", "1", 1), *found[1:]], [(0, "Run", 1, 1), *found[1:]], [(0, "base", 1, 1), *found[1:]],
@@ -244,7 +256,9 @@ class AbsenceTest(unittest.TestCase):
                  [(0, "short", 1), *found[1:]], [(0,), *found[1:]], [(), *found[1:]], [(0, ["run"], 1, 1), *found[1:]],
                  [(0, "run", 1, 10), *found[1:]], [(0, "run", 1, 0), *found[1:]], [(0, None), *found[1:]],
                  [found[0], (1, "base", True), found[2]], [found[0], (1, "base", 0), found[2]],
-                 [found[0], (1, "base", 2), found[2]], [found[0], (1, "short"), found[2]],
+                 [found[0], (1, "base", 2), found[2]], [found[0], (1, "Base", 1), found[2]],
+                 [found[0], (1, "short", 1), found[2]], [found[0], (1, None, 1), found[2]],
+                 [found[0], (1, "short"), found[2]],
                  [found[0], found[1], (2, "short", 0)], [found[0], found[1], (2,)], [found[0], found[1], "short"],
                  [found[0], found[1], (2, "base", 1)], [found[0], found[1], ([2], "short")], {0: found}, table,
                  [found[0], found[1], (2, table)], [table] * 3, [found[0], found[1], (10 ** 29, "short")]]
@@ -336,7 +350,7 @@ class ReplacedTest(unittest.TestCase):
         self.assertEqual(replaced(table, "Au", "u", ""), "a")
 
 
-class WrongArgumentsTest(unittest.TestCase):
+class WrongArgumentsTest(ErrorCase):
     CALLS = [
         (occurrences, 2, {}),
         (occurrence_count, 2, {}),
@@ -345,14 +359,6 @@ class WrongArgumentsTest(unittest.TestCase):
         (is_absence, 2, {"value": None}),
         (replaced, 3, {"limit": True}),
     ]
-
-    def expect(self, error, told, function, *values, **named):
-        with self.assertRaises(error) as caught:
-            function(*values, **named)
-        self.assertIs(type(caught.exception), error)
-        self.assertEqual(len(vars(caught.exception)), len(told))
-        for attribute, value in zip(vars(caught.exception).values(), told):
-            self.assertIs(attribute, value)
 
     def test_the_first_error_that_applies(self):
         table = example_of_search()

@@ -1,11 +1,10 @@
-import unittest
-
 from canontext import composing, errors, forms, rests, search
 from canontext.buffers import Buffer
 from canontext.revisions import spelled
 from canontext.soundness import decomposed, judge
 from canontext.tables import Table
 from canontext.variants import Variants
+from tests.cases import ErrorCase
 from tests.values import any_values, example, small_tables, sound_tables, unsound
 
 # Each function or class with its parameters, those that are texts, and valid values for others.
@@ -33,17 +32,7 @@ CALLS = [
 ]
 
 
-class SoundArgumentsTest(unittest.TestCase):
-    def expect(self, error, told, function, *values, **named):
-        """Check that a call raises an error with these very values as its attributes."""
-        with self.assertRaises(error) as caught:
-            function(*values, **named)
-        self.assertIs(type(caught.exception), error)
-        attributes = list(vars(caught.exception).values())
-        self.assertEqual(len(attributes), len(told))
-        for attribute, value in zip(attributes, told):
-            self.assertIs(attribute, value)
-
+class SoundArgumentsTest(ErrorCase):
     def test_no_table(self):
         for function, texts, more in CALLS:
             for value in any_values() + ["", "a", [example()]]:

@@ -8,6 +8,7 @@ from canontext.composing import composed
 from canontext.soundness import decomposed
 from canontext.streams import Stream, streamed
 from canontext.tables import Table
+from tests.cases import ErrorCase
 from tests.values import any_values, example, sound_tables, texts_up_to, unsound
 
 NO_CHOICES = [value for value in any_values() if value is not True and value is not False] + [1, 0, "a"]
@@ -143,6 +144,30 @@ class StreamTest(unittest.TestCase):
         stream = Stream(table)
         self.assertEqual([stream("a"), stream.held, stream.changer()], ["", "a", "1"])
 
+    def test_atoms_that_others_of_a_composite_block(self):
+        for lines, changer in (
+            ("a 0\nu 1\nx 1\nA 0 = au\nW 1 = xu", "u"),
+            ("a 0\nb 0\nu 1\nD 0 = ab\nW 1 = ub", "b"),
+            ("a 0\nb 0\nD 0 = ab\nB 0 = aa", "B"),
+            ("a 0\nu 1\nx 1\nA 0 = au\nW 1 = ux", "W"),
+            ("a 0\nu 2\nx 1\nA 0 = au\nW 1 = xu", "W"),
+        ):
+            stream = Stream(Table.from_text(lines))
+            self.assertEqual([stream("a"), stream.held, stream.changer()], ["", "a", changer], lines)
+            self.assertEqual(stream.changer(), first_changer(Table.from_text(lines), "a", True))
+
+    def test_marks_of_the_highest_class(self):
+        table = Table.from_text("a 0\nb 0\nu 1\nz 9\nA 0 = az\nB 0 = Ab")
+        stream = Stream(table)
+        self.assertEqual([stream("a"), stream.changer(), stream("z"), stream.held, stream.changer(), stream("b")],
+                         ["", "z", "", "A", "b", "B"])
+        self.assertEqual([stream.held, stream.changer(), stream("azz"), stream.held, stream("u"), stream.close()],
+                         ["", None, "A", "z", "u", "z"])
+        for text in texts_up_to(table, 3):
+            stream = Stream(table)
+            stream(text)
+            self.check(stream, table, text, True)
+
     def test_a_base_that_pairs_with_itself_in_long_runs(self):
         table = Table({"a": 0, "P": 0, "m": 1}, decompositions={"P": "aa"})
         stream = Stream(table)
@@ -219,15 +244,7 @@ class ClosedStreamTest(unittest.TestCase):
                              [True, "", "abn", ["a", "bn"]])
 
 
-class WrongArgumentsTest(unittest.TestCase):
-    def expect(self, error, told, function, *values, **named):
-        with self.assertRaises(error) as caught:
-            function(*values, **named)
-        self.assertIs(type(caught.exception), error)
-        self.assertEqual(len(vars(caught.exception)), len(told))
-        for attribute, value in zip(vars(caught.exception).values(), told):
-            self.assertIs(attribute, value)
-
+class WrongArgumentsTest(ErrorCase):
     def test_the_constructor(self):
         table = unsound()
         for value in any_values() + ["a", [example()]]:

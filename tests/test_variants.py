@@ -9,9 +9,7 @@ from canontext.rests import beginnings, rest_after, rests
 from canontext.soundness import decomposed
 from canontext.tables import Table
 from canontext.variants import Variants
-from tests.values import any_values, equivalent_texts, example, sound_tables
-
-NO_INTEGERS = [value for value in any_values() if type(value) is not int] + ["0", "a", [0], (0,), {0: 0}]
+from tests.values import any_values, equivalent_texts, example, no_integers, sound_tables
 
 
 def example_of_variants():
@@ -98,7 +96,7 @@ class VariantsTest(unittest.TestCase):
 class IndexTest(unittest.TestCase):
     def test_wrong_indices(self):
         variants = Variants(example_of_variants(), "bnm")
-        for value in NO_INTEGERS + [-1, 3, 4, -3, 10 ** 29, -10 ** 29, variants, "bnm"]:
+        for value in no_integers() + [-1, 3, 4, -3, 10 ** 29, -10 ** 29, variants, "bnm"]:
             with self.assertRaises(errors.UnknownIndex) as caught:
                 variants[value]
             self.assertIs(caught.exception.value, value)
@@ -173,7 +171,7 @@ class EachTest(unittest.TestCase):
 
     def test_wrong_starts(self):
         variants = Variants(example_of_variants(), "bnm")
-        for value in NO_INTEGERS + [-1, 4, 10 ** 29, -10 ** 29]:
+        for value in no_integers() + [-1, 4, 10 ** 29, -10 ** 29]:
             generator = variants.each(start=value)
             with self.assertRaises(errors.InvalidInteger) as caught:
                 next(generator)

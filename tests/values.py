@@ -36,6 +36,11 @@ def any_values():
     ]
 
 
+def no_integers():
+    """New values of every kind that may be passed as any value; none is an integer."""
+    return [value for value in any_values() if type(value) is not int] + ["0", "a", [0], (0,), {0: 0}]
+
+
 def example():
     """The table of the example behind point 24."""
     return Table({"a": 0, "u": 1, "v": 2, "A": 0, "B": 0}, decompositions={"A": "au", "B": "Av"}, excluded="B")
