@@ -1,8 +1,8 @@
 """The lines of a console: the names of commands and their arguments."""
 
 from canontext.errors import InvalidCommand
+from canontext.tables import DIGITS
 
-DIGITS = "0123456789"
 MAX_DIGITS = 30
 
 TABLE_COMMAND = "table"

@@ -51,7 +51,7 @@ class Stream:
         """What the form of the text has behind what was returned."""
         if self._closed:
             return ""
-        return "".join(self._tail.letters()[self._passed:])
+        return "".join(self._tail.letters_from(self._passed))
 
     @property
     def pieces(self):

@@ -29,7 +29,7 @@ class Tail:
             self._marks[rank].append(atom)
             return []
         bases, taken = self.combined()
-        settled = self.letters()
+        settled = self.letters_from(0)
         composite = None
         if not self.staying(taken):
             composite = self.pair(bases[-1], atom)
@@ -48,7 +48,7 @@ class Tail:
 
     def combined(self):
         """Return what the base is behind the marks of each class, and a dict of how many of each it has taken."""
-        bases = [self._base] * (Table.MAX_CLASS + 1)
+        bases = [self._base for _ in range(Table.MAX_CLASS + 1)]
         taken = {}
         if not self._marks:
             return bases, taken
@@ -71,12 +71,17 @@ class Tail:
         """Return the list of the classes of the marks that the base has not taken."""
         return [rank for rank in taken if taken[rank] < len(self._marks[rank])]
 
-    def letters(self):
-        """Return the list of the characters of the tail."""
+    def letters_from(self, start):
+        """Return the list of the characters of the tail from an index on."""
         bases, taken = self.combined()
-        found = list(bases[-1])
+        found = list(bases[-1])[start:]
+        skipped = max(0, start - len(bases[-1]))
+        # What was returned before is never gone through again, as it may be very long.
         for rank in taken:
-            found.extend(self._marks[rank][taken[rank]:])
+            marks = self._marks[rank]
+            first = min(len(marks), taken[rank] + skipped)
+            skipped = skipped - (first - taken[rank])
+            found.extend(marks[first:])
         return found
 
     def final_from(self, start):
